@@ -1,0 +1,1 @@
+"""Nesthall: rooms within rooms, and doors that events open."""
