@@ -28,6 +28,7 @@ BARRED_WORDS = re.compile(
     r"|NamedTuple|TypedDict|TYPE_CHECKING|abstractmethod)\b|dataclass|overload|contextmanager"
 )
 BARRED_NAMES = set("register mro elements open input version_info with_traceback add_note format format_map".split())
+WALKING = ("list", "tuple", "dict", "sorted", "sum", "any", "all", "enumerate")
 STATEMENTS = (
     ast.FunctionDef, ast.ClassDef, ast.ImportFrom, ast.Assign, ast.AugAssign, ast.If, ast.While, ast.For, ast.Return,
     ast.Break, ast.Continue, ast.Pass, ast.Raise, ast.Try, ast.Expr,
@@ -131,6 +132,66 @@ def faults_of_form(node):
     return [f"{fault} in row {node.lineno}" for fault in told]
 
 
+def is_plain(node):
+    """Whether the expression is a plain value, as a name of a file's top may have (L3)."""
+    if isinstance(node, (ast.Tuple, ast.List)):
+        return all(is_plain(part) for part in node.elts)
+    if isinstance(node, ast.Dict):
+        return all(is_plain(part) for part in node.keys + node.values)
+    if isinstance(node, ast.UnaryOp) and isinstance(node.op, ast.USub):
+        return isinstance(node.operand, ast.Constant)
+    return isinstance(node, ast.Constant)
+
+
+def faults_of_top(tree):
+    """What is wrong with the top of the file (L3)."""
+    told = []
+    for number, node in enumerate(tree.body):
+        if isinstance(node, ast.Assign):
+            right = is_plain(node.value)
+        elif isinstance(node, ast.Expr):
+            right = number == 0 and isinstance(node.value, ast.Constant)
+        else:
+            right = isinstance(node, (ast.ImportFrom, ast.FunctionDef, ast.ClassDef))
+        if not right:
+            told.append(f"L3: row {node.lineno}")
+    return told
+
+
+def is_walker(node):
+    """Whether the expression makes something that is to be walked at once (L23)."""
+    if not isinstance(node, ast.Call):
+        return False
+    if isinstance(node.func, ast.Attribute):
+        return node.func.attr in ("items", "keys", "values")
+    return isinstance(node.func, ast.Name) and node.func.id in ("zip", "enumerate", "reversed", "range")
+
+
+def faults_of_walks(tree):
+    """What is wrong with the places of things that are to be walked at once (L23)."""
+    walked = []
+    for node in ast.walk(tree):
+        if isinstance(node, (ast.For, ast.comprehension)):
+            walked.append(node.iter)
+        if isinstance(node, ast.Call) and isinstance(node.func, ast.Name):
+            name, count = node.func.id, len(node.args)
+            if name in WALKING or name == "zip" or name in ("min", "max") and count == 1:
+                walked.extend(node.args if name == "zip" else node.args[:1])
+        if isinstance(node, ast.Call) and isinstance(node.func, ast.Attribute) and node.func.attr == "join":
+            walked.extend(node.args)
+    return [f"L23: row {node.lineno}" for node in ast.walk(tree) if is_walker(node) and node not in walked]
+
+
+def own_values():
+    """Each value that an object of the package is given."""
+    values = set()
+    for path in FILES:
+        for node in ast.walk(ast.parse(path.read_text("ascii"))):
+            if isinstance(node, ast.Attribute) and isinstance(node.ctx, ast.Store):
+                values.add(node.attr)
+    return values
+
+
 def own_methods():
     """Each method that a class of the package has."""
     methods = set()
@@ -139,6 +200,15 @@ def own_methods():
             if isinstance(node, ast.ClassDef):
                 methods.update(part.name for part in node.body if isinstance(part, ast.FunctionDef))
     return methods
+
+
+def faults_of_file(text, methods):
+    """All that is wrong with a file of this text, in a package that has these methods."""
+    tree = ast.parse(text)
+    told = faults_of_rows(text) + faults_of_names(tree, methods) + faults_of_top(tree) + faults_of_walks(tree)
+    for node in ast.walk(tree):
+        told.extend(faults_of_form(node))
+    return told
 
 
 class Language(unittest.TestCase):
@@ -154,15 +224,19 @@ class Language(unittest.TestCase):
         for path in FILES:
             with self.subTest(path.name):
                 text = path.read_text("ascii")
-                tree = ast.parse(text)
-                told = faults_of_rows(text) + faults_of_names(tree, methods)
-                for node in ast.walk(tree):
-                    told.extend(faults_of_form(node))
-                self.assertEqual(told, [])
+                self.assertEqual(faults_of_file(text, methods), [])
+
+    def test_no_name_is_a_method_and_a_value(self):
+        self.assertEqual(sorted(own_methods() & own_values()), [])
 
     def test_a_file_outside_the_rules_is_told(self):
         for text, rule in (
             ("import os\n", "L6"),
+            ("X = 10 ** 30\n", "L3"),
+            ("X = 5\nX.append(6)\n", "L3"),
+            ("def f(x):\n    return x in range(5)\n", "L23"),
+            ("def f(x):\n    y = x.items()\n    return y\n", "L23"),
+            ("def f(x):\n    return list(reversed(range(x)))\n", "L23"),
             ("from os import path\n", "L2"),
             ("def f(*rest):\n    return rest\n", "L4"),
             ("def f(x):\n    assert x\n", "L6"),
@@ -180,10 +254,7 @@ class Language(unittest.TestCase):
             ("X = '%'\n", "L27"),
         ):
             with self.subTest(text):
-                tree = ast.parse(text)
-                told = faults_of_rows(text) + faults_of_names(tree, set())
-                for node in ast.walk(tree):
-                    told.extend(faults_of_form(node))
+                told = faults_of_file(text, set())
                 self.assertIn(rule, [fault.partition(":")[0] for fault in told])
 
 
