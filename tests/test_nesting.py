@@ -2,20 +2,7 @@ import itertools
 import unittest
 
 from nesthall.nesting import hall_over, kids, lies_in, parent
-
-
-def rooms_of(depths, kinds=None):
-    """Rooms of these depths and, where they are told, of these kinds."""
-    chosen = kinds or ["all"] * len(depths)
-    return tuple(("room", kind, depth, "", "", (), ()) for depth, kind in zip(depths, chosen))
-
-
-def all_depths(size):
-    """Each row of depths that so many rooms can have."""
-    rows = [[0]]
-    for _ in range(size - 1):
-        rows = [row + [depth] for row in rows for depth in range(1, row[-1] + 2)]
-    return rows
+from samples import all_depths, rooms_of
 
 
 def paths(depths):
