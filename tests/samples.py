@@ -90,3 +90,12 @@ def check_own_list(case, ask):
     first.reverse()
     case.assertEqual(second, own)
     case.assertEqual(ask(), own)
+
+
+def check_whole(case, told):
+    """A stand and a record, of the kinds that are promised, with whole numbers in them that are no truths."""
+    stand, record = told
+    case.assertEqual([type(told), type(stand), type(record)], [tuple, tuple, list])
+    case.assertEqual([type(part) for part in (*stand, *stand[2], *record)], [tuple] * (3 + len(stand[2]) + len(record)))
+    numbers = [number for row in (stand[0], stand[1], *stand[2], *[part[1:] for part in record]) for number in row]
+    case.assertEqual({type(number) for number in numbers} - {int, str}, set())

@@ -1,9 +1,9 @@
 import itertools
 import unittest
 
+from by_words import expected_answer, expected_chosen
 from nesthall.doors import answer, chosen, goals_of
-from nesthall.guards import holds
-from samples import FULL, HOUSE, NOTHING, OPENINGS, above, check_list_of_numbers, check_own_list
+from samples import FULL, HOUSE, NOTHING, OPENINGS, check_list_of_numbers, check_own_list
 
 YES = ("yes",)
 NO = ("not", YES)
@@ -21,33 +21,6 @@ def chart(doors, order="inner", rooms=HOUSE):
 
 def stand(opening=FULL, boxes=(4, 7), kept=NOTHING):
     return (opening, boxes, kept)
-
-
-def expected_answer(asked, where, room, event):
-    """The answer, word by word as it is told."""
-    if room not in where[0]:
-        return None
-    for number, told in enumerate(asked[6]):
-        if told[0] == room and told[1] == event and holds(told[2], where[0], where[1]):
-            return number
-    return None
-
-
-def expected_chosen(asked, where, event):
-    """What is chosen, word by word as it is told."""
-    rooms = asked[5]
-    answers = {}
-    for room in range(len(rooms)):
-        number = expected_answer(asked, where, room, event)
-        if number is not None:
-            answers[room] = number
-    told = []
-    for room in answers:
-        inside = [other for other in answers if room in above(rooms, other)]
-        over = [other for other in answers if other in above(rooms, room)]
-        if not (inside if asked[0] == "inner" else over):
-            told.append(answers[room])
-    return told
 
 
 class Answers(unittest.TestCase):

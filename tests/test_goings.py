@@ -1,26 +1,9 @@
 import itertools
 import unittest
 
+from by_words import expected_in, expected_out
 from nesthall.goings import goings_in, goings_out
-from samples import FULL, GARDEN, HOUSE, above, chain, check_list_of_numbers, check_own_list, nestings, rooms_of
-
-
-def expected_in(rooms, under, goals):
-    """The goings in, word by word as they are told."""
-    if under is None:
-        return [0] + expected_in(rooms, 0, goals)
-    own = [room for room in range(len(rooms)) if above(rooms, room)[:1] == [under]]
-    if rooms[under][1] == "one":
-        bearing = [kid for kid in own if kid in goals or any(kid in above(rooms, goal) for goal in goals)]
-        own = (bearing or own)[:1]
-    told = []
-    for kid in own:
-        told += [kid] + expected_in(rooms, kid, goals)
-    return told
-
-
-def expected_out(rooms, under, opening):
-    return [room for room in opening[::-1] if under is None or under in above(rooms, room)]
+from samples import FULL, GARDEN, HOUSE, chain, check_list_of_numbers, check_own_list, nestings, rooms_of
 
 
 class Asking(unittest.TestCase):

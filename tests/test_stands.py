@@ -1,16 +1,13 @@
 import itertools
 import unittest
 
+from by_words import kids_of, plain_in
 from nesthall.stands import is_full, is_stand, keeping, lamps
 from samples import FULL, GARDEN, HALL, HOUSE, NOTHING, OPENINGS, above, chain, nestings, put, rooms_of
 
 BOXES = (("coins", 5, 0), ("bell", 1, 0), ("steps", 10 ** 30, 7))
 CHART = ("inner", 3, 5, BOXES, ("knock",), HOUSE, ())
 HELD = (4, 0, 9)
-
-
-def kids_of(rooms, room):
-    return [kid for kid in range(len(rooms)) if above(rooms, kid)[:1] == [room]]
 
 
 def expected_full(rooms, opening):
@@ -32,10 +29,6 @@ def full_openings(rooms):
     choices = itertools.product((False, True), repeat=len(rooms))
     openings = [tuple(room for room, there in enumerate(choice) if there) for choice in choices]
     return [opening for opening in openings if expected_full(rooms, opening)]
-
-
-def plain_in(rooms, room, opening):
-    return tuple(other for other in opening if rooms[other][1] == "plain" and room in above(rooms, other))
 
 
 class Openings(unittest.TestCase):
