@@ -1,4 +1,4 @@
-"""Goings, doors, runs and tables, word by word as they are promised: slow, and without the package's own roads."""
+"""Goings, doors, runs, tables and what is told of them, word by word as promised: slow, and on roads of its own."""
 
 import itertools
 
@@ -180,3 +180,79 @@ def all_ways(count, longest):
     """Each way of so many events, up to this length, the one that comes before all others first."""
     for length in range(longest + 1):
         yield from itertools.product(range(count), repeat=length)
+
+
+def expected_seen(chart, longest):
+    """What is seen of the chart, out of all ways up to this length."""
+    runs = {(): expected_begun(chart)}
+    behind = {}
+    met = {}
+    for way in all_ways(len(chart[4]), longest):
+        if way:
+            step = (runs[way[:-1]][0], way[-1])
+            if step not in behind:
+                behind[step] = expected_after(chart, *step)
+            runs[way] = behind[step]
+        for part in runs[way][1]:
+            met.setdefault(part, way)
+    rooms = [met.get(("in", room)) for room in range(len(chart[5]))]
+    return (rooms, [met.get(("door", door)) for door in range(len(chart[6]))])
+
+
+def gone_along(rows, row, way):
+    """What the last event of the way says, None for the empty one, and the row to which the way leads."""
+    spoken = None
+    for event in way:
+        spoken, row = rows[row][1][event]
+    return (spoken, row)
+
+
+def is_parted_by(rows, one, other, way):
+    """Whether the way parts the two rows."""
+    spoken, end = gone_along(rows, one, way)
+    other_spoken, other_end = gone_along(rows, other, way)
+    return spoken != other_spoken or rows[end][0] != rows[other_end][0]
+
+
+def expected_parting(rows, one, other, longest):
+    """The parting of the two rows, out of all ways up to this length."""
+    for way in all_ways(len(rows[0][1]), longest):
+        if is_parted_by(rows, one, other, way):
+            return way
+    return None
+
+
+def parted_lengths(rows):
+    """For each two rows that are parted how many events the shortest way has that parts them."""
+    count, events = len(rows), range(len(rows[0][1]))
+    pairs = list(itertools.product(range(count), repeat=2))
+    lengths = {(one, other): 0 for one, other in pairs if rows[one][0] != rows[other][0]}
+    grown, length = True, 0
+    while grown:
+        length += 1
+        grown = {}
+        for one, other in pairs:
+            steps = [(rows[one][1][event], rows[other][1][event]) for event in events]
+            ends = [(first[1], second[1]) for first, second in steps]
+            if (one, other) not in lengths and (
+                any(first[0] != second[0] for first, second in steps) or any(pair in lengths for pair in ends)
+            ):
+                grown[one, other] = length
+        lengths.update(grown)
+    return lengths
+
+
+def expected_shrunk(rows):
+    """The table shrunk."""
+    lengths = parted_lengths(rows)
+    fold, firsts = [], []
+    for row in range(len(rows)):
+        own = [number for number, first in enumerate(firsts) if (row, first) not in lengths]
+        if not own:
+            firsts.append(row)
+        fold.append((own or [len(firsts) - 1])[0])
+    small = []
+    for first in firsts:
+        lamps, moves = rows[first]
+        small.append((lamps, tuple((words, fold[to]) for words, to in moves)))
+    return (fold, small)

@@ -1,6 +1,12 @@
-"""Charts without faults, drawn by a row of numbers that is always the same."""
+"""Charts without faults, and tables, drawn by a row of numbers that is always the same."""
 
 WORDS = ("ash", "bee", "cow", "dew", "elm", "fir", "gnu", "hen", "ivy", "jay", "kid", "log", "mud", "nut", "oak")
+
+# Seeds of charts whose shrunken tables have a dozen rows and more; most charts that are drawn have few stands.
+LIVELY = (
+    807, 846, 1102, 1286, 1777, 2464, 3677, 3791, 4432, 4796, 5170, 5390, 5505, 5527, 6381, 6461, 7090, 7301, 8223,
+    8474, 8531, 8944, 9321, 10235, 10829, 11700, 12122, 12148,
+)
 
 
 class Draw:
@@ -86,3 +92,19 @@ def drawn_chart(seed, most_rooms=14, most_doors=40):
     count = draw.below(most_doors + 1) if events else 0
     doors = tuple(drawn_door(draw, boxes, events, rooms) for _ in range(count))
     return (draw.one_of(("inner", "outer")), draw.below(4), 1 + draw.below(5), tuple(boxes), events, rooms, doors)
+
+
+def drawn_table(seed, most_rows=6, most_events=3):
+    """The table of this seed; few words and lamps, so that many rows of it look alike at first."""
+    draw = Draw(seed)
+    count, events = 1 + draw.below(most_rows), draw.below(most_events + 1)
+    unlike = draw.one_of((0, 5, 20, 60))
+    rows = []
+    for _ in range(count):
+        lamps = draw.one_of((("red",), ("red", "blue"), ("blue", "red"))) if draw.chance(unlike) else ()
+        moves = []
+        for _ in range(events):
+            words = draw.one_of((("ash",), ("ash", "bee"), ("bee", "ash"))) if draw.chance(unlike) else ()
+            moves.append((words, draw.below(count)))
+        rows.append((lamps, tuple(moves)))
+    return rows

@@ -1,4 +1,4 @@
-"""What several tests ask about: a house of rooms, small nestings of each form, and how rooms lie in them."""
+"""What several tests ask about: a house of rooms, small nestings of each form, how rooms lie in them, and tables."""
 
 import itertools
 
@@ -62,6 +62,16 @@ def nestings(size):
         has_kids = [after > depth for depth, after in zip(depths, depths[1:] + [0])]
         for kinds in itertools.product(*[("one", "all") if has else ("plain",) for has in has_kids]):
             yield rooms_of(depths, kinds)
+
+
+def table(moves, lamps=None, words=None):
+    """A table with these moves; lamps tells those of some rows, words what some rows say by some events."""
+    lit, spoken = lamps or {}, words or {}
+    rows = []
+    for row, ends in enumerate(moves):
+        steps = tuple((spoken.get((row, event), ()), to) for event, to in enumerate(ends))
+        rows.append((lit.get(row, ()), steps))
+    return rows
 
 
 def above(rooms, room):

@@ -3,12 +3,15 @@
 import itertools
 import unittest
 
-from by_words import kids_of
-from drawn import Draw, drawn_chart
+from by_words import is_parted_by, kids_of
+from drawn import LIVELY, Draw, drawn_chart
 from nesthall.charts import faults
 from nesthall.errors import TooWide
 from nesthall.nest import Nest
-from nesthall.runs import said
+from nesthall.parting import parting
+from nesthall.runs import after, begun, said
+from nesthall.shrinking import shrunk
+from nesthall.sights import seen
 from nesthall.stands import is_full, is_stand
 from nesthall.tables import flat
 from samples import above, put
@@ -42,6 +45,12 @@ MILL = ("outer", 2, 6, (("grain", 4, 1), ("load", 2, 0)), ("pour", "halt", "stir
 ))
 
 
+def tables_of(asked):
+    """All that is told of the flat table and of the shrunken one."""
+    told = flat(asked, 300)
+    return (*told, *shrunk(told[1]))
+
+
 class Whole(unittest.TestCase):
     def follow(self, rooms, opening, record):
         """The opening behind the record, each step of which can be gone."""
@@ -70,10 +79,10 @@ class Whole(unittest.TestCase):
             self.assertEqual(count, {"plain": 0, "one": 1, "all": len(own)}[asked[5][room][1]])
 
     def walk(self, asked, table, events):
-        """The chart is run along the events, and the table with it."""
-        words, rows, stands = table
+        """The chart is run along the events, and the flat table and the shrunken one with it."""
+        words, rows, stands, fold, small = table
         nest = Nest(asked)
-        row = 0
+        row = small_row = 0
         self.assertEqual(tuple(said(nest.first())), words)
         self.assertEqual(self.follow(asked[5], (), nest.first()), nest.stand()[0])
         for event in (None, *events):
@@ -82,36 +91,97 @@ class Whole(unittest.TestCase):
                 record = nest.run(event)
                 spoken, row = rows[row][1][event]
                 self.assertEqual(tuple(said(record)), spoken)
+                spoken, small_row = small[small_row][1][event]
+                self.assertEqual(tuple(said(record)), spoken)
                 self.assertEqual(self.follow(asked[5], before[0], record), nest.stand()[0])
             self.assertEqual(stands[row], nest.stand())
             self.assertEqual(rows[row][0], nest.lamps())
+            self.assertEqual(small[small_row][0], nest.lamps())
+            self.assertEqual(fold[row], small_row)
             self.check_stand(asked, nest.stand())
+
+    def check_partings(self, rows):
+        """Each two rows of the shrunken table are parted, in it and in the flat one; how many pairs there are."""
+        fold, small = shrunk(rows)
+        pairs = list(itertools.combinations(range(len(small)), 2))
+        for one, other in pairs:
+            way = parting(small, one, other)
+            self.assertIsNotNone(way)
+            self.assertTrue(is_parted_by(small, one, other, way))
+            self.assertTrue(is_parted_by(rows, fold.index(one), fold.index(other), way))
+            self.assertEqual(parting(rows, fold.index(one), fold.index(other)), way)
+        for row, number in enumerate(fold):
+            self.assertIsNone(parting(rows, row, fold.index(number)))
+        return len(pairs)
+
+    def check_sights(self, asked, stands):
+        """What is never met is met in no run from the stands, and these end in them; how many are never met."""
+        runs = [after(asked, stand, event) for stand in stands for event in range(len(asked[4]))]
+        self.assertEqual({end for end, _ in runs} - set(stands), set())
+        met = {part for _, record in (begun(asked), *runs) for part in record}
+        rooms, doors = seen(asked, len(stands))
+        self.assertEqual([way is not None for way in rooms], [("in", room) in met for room in range(len(asked[5]))])
+        self.assertEqual([way is not None for way in doors], [("door", door) in met for door in range(len(asked[6]))])
+        return (rooms + doors).count(None)
+
+    def check_ways(self, asked):
+        """The chart is run along each way that is seen, and meets by its last run what is seen, by none ahead."""
+        for mark, found in zip(("in", "door"), seen(asked, 300)):
+            for number, way in enumerate(found):
+                nest = Nest(asked)
+                records = [nest.first()] + [nest.run(event) for event in way or ()]
+                meets = [(mark, number) in record for record in records]
+                self.assertEqual(meets, [False] * (len(meets) - 1) + [way is not None])
 
     def test_the_mill_along_each_short_row_of_events(self):
         self.assertEqual(faults(MILL), [])
         for order, letters, turns in itertools.product(("inner", "outer"), (0, 2), (1, 6)):
             asked = (order, letters, turns) + MILL[3:]
-            table = flat(asked, 300)
+            table = tables_of(asked)
             self.assertGreater(len(table[1]), 10)
             for events in itertools.product(range(3), repeat=5):
                 self.walk(asked, table, events)
 
     def test_the_mill_along_long_rows_of_events(self):
-        table = flat(MILL, 300)
+        table = tables_of(MILL)
         for seed in range(20):
             draw = Draw(seed)
             self.walk(MILL, table, [draw.below(3) for _ in range(100)])
 
     def test_drawn_charts_along_drawn_rows_of_events(self):
         rows = 0
-        for seed in range(400):
+        for seed in (*range(200), *LIVELY):
             asked = drawn_chart(seed)
-            table = flat(asked, 300)
+            table = tables_of(asked)
             rows += len(table[1])
             draw = Draw(seed)
             for _ in range(3):
-                self.walk(asked, table, [draw.below(len(asked[4])) for _ in range(12)] if asked[4] else [])
-        self.assertGreater(rows, 1000)
+                count = 40 if seed in LIVELY else 12
+                self.walk(asked, table, [draw.below(len(asked[4])) for _ in range(count)] if asked[4] else [])
+        self.assertGreater(rows, 1500)
+
+    def test_partings_sights_and_ways_of_the_mill(self):
+        for order, letters, turns in itertools.product(("inner", "outer"), (0, 2), (1, 6)):
+            asked = (order, letters, turns) + MILL[3:]
+            table = flat(asked, 300)
+            self.assertGreater(self.check_partings(table[1]), 40)
+            self.check_sights(asked, table[2])
+            self.check_ways(asked)
+
+    def test_partings_sights_and_ways_of_drawn_charts(self):
+        pairs = never = lesser = 0
+        for seed in (*range(200), *LIVELY):
+            asked = drawn_chart(seed)
+            _, rows, stands, _, small = tables_of(asked)
+            if seed in LIVELY:
+                self.assertGreaterEqual(len(small), 12)
+            pairs += self.check_partings(rows)
+            never += self.check_sights(asked, stands)
+            lesser += 1 < len(small) < len(rows)
+            self.check_ways(asked)
+        self.assertGreater(pairs, 5000)
+        self.assertGreater(never, 1000)
+        self.assertGreater(lesser, 40)
 
     def test_each_way_of_a_refusal_leads_to_another_stand(self):
         asked = put(MILL, 3, (("grain", 10 ** 30, 1), ("load", 2, 0)))
