@@ -150,7 +150,7 @@ class Whole(unittest.TestCase):
 
     def test_drawn_charts_along_drawn_rows_of_events(self):
         rows = 0
-        for seed in (*range(200), *LIVELY):
+        for seed in (*range(400), *LIVELY):
             asked = drawn_chart(seed)
             table = tables_of(asked)
             rows += len(table[1])
@@ -158,7 +158,7 @@ class Whole(unittest.TestCase):
             for _ in range(3):
                 count = 40 if seed in LIVELY else 12
                 self.walk(asked, table, [draw.below(len(asked[4])) for _ in range(count)] if asked[4] else [])
-        self.assertGreater(rows, 1500)
+        self.assertGreater(rows, 2000)
 
     def test_partings_sights_and_ways_of_the_mill(self):
         for order, letters, turns in itertools.product(("inner", "outer"), (0, 2), (1, 6)):
