@@ -31,6 +31,11 @@ def is_in_reach(number):
     return -GREATEST <= number <= GREATEST
 
 
+def names_of(things):
+    """The names of boxes or rooms, a list."""
+    return [thing[0] for thing in things]
+
+
 def name_has_fault(name, ahead):
     """Whether the name is no word, or is among the names ahead of it."""
     return not is_word(name) or name in ahead
@@ -40,7 +45,7 @@ def box_has_fault(box, ahead):
     """Whether the box, behind the boxes ahead, has a fault."""
     size = box[1]
     start = box[2]
-    if name_has_fault(box[0], [other[0] for other in ahead]):
+    if name_has_fault(box[0], names_of(ahead)):
         return True
     return not 1 <= size <= GREATEST or not 0 <= start < size
 
@@ -85,7 +90,7 @@ def room_has_fault(room, ahead, boxes, events):
     """Whether the room, behind the rooms ahead, has a fault, whatever follows it."""
     kind = room[1]
     lamp = room[4]
-    if name_has_fault(room[0], [other[0] for other in ahead]) or kind not in KINDS:
+    if name_has_fault(room[0], names_of(ahead)) or kind not in KINDS:
         return True
     if depth_has_fault(room[2], ahead) or keeps_has_fault(room[3], kind):
         return True

@@ -2,6 +2,11 @@
 
 WORDS = ("ash", "bee", "cow", "dew", "elm", "fir", "gnu", "hen", "ivy", "jay", "kid", "log", "mud", "nut", "oak")
 
+# For each of these words another one, with which rows of texts are written.
+OWN_WORDS = dict(zip(WORDS, (
+    "in", "one", "to", "stay", "lamp", "keeps", "near", "not", "is", "door", "when", "say", "yes", "plain", "both",
+)))
+
 # Seeds of charts whose shrunken tables have a dozen rows and more; most charts that are drawn have few stands.
 LIVELY = (
     807, 846, 1102, 1286, 1777, 2464, 3677, 3791, 4432, 4796, 5170, 5390, 5505, 5527, 6381, 6461, 7090, 7301, 8223,
@@ -92,6 +97,13 @@ def drawn_chart(seed, most_rooms=14, most_doors=40):
     count = draw.below(most_doors + 1) if events else 0
     doors = tuple(drawn_door(draw, boxes, events, rooms) for _ in range(count))
     return (draw.one_of(("inner", "outer")), draw.below(4), 1 + draw.below(5), tuple(boxes), events, rooms, doors)
+
+
+def renamed(part):
+    """The chart, or a part of it, with words of the texts' own in the place of its words."""
+    if isinstance(part, tuple):
+        return tuple(renamed(inner) for inner in part)
+    return OWN_WORDS.get(part, part)
 
 
 def drawn_table(seed, most_rows=6, most_events=3):

@@ -109,3 +109,13 @@ def check_whole(case, told):
     case.assertEqual([type(part) for part in (*stand, *stand[2], *record)], [tuple] * (3 + len(stand[2]) + len(record)))
     numbers = [number for row in (stand[0], stand[1], *stand[2], *[part[1:] for part in record]) for number in row]
     case.assertEqual({type(number) for number in numbers} - {int, str}, set())
+
+
+def check_tuples(case, told):
+    """What is told is tuples throughout, with texts, None and whole numbers in them that are no truths."""
+    case.assertIs(type(told), tuple)
+    for part in told:
+        if type(part) is not tuple:
+            case.assertIn(type(part), (int, str, type(None)))
+        else:
+            check_tuples(case, part)

@@ -1,20 +1,24 @@
-"""The promise over all: what is run and what is told as a table do the same, and no record goes astray."""
+"""The promise over all: what is run, what is told as a table and what is read do the same; no record goes astray."""
 
 import itertools
 import unittest
 
 from by_words import is_parted_by, kids_of
-from drawn import LIVELY, Draw, drawn_chart
+from drawn import LIVELY, Draw, drawn_chart, renamed
 from nesthall.charts import faults
+from nesthall.desk import Desk
 from nesthall.errors import TooWide
 from nesthall.nest import Nest
 from nesthall.parting import parting
+from nesthall.reading import read
 from nesthall.runs import after, begun, said
 from nesthall.shrinking import shrunk
 from nesthall.sights import seen
 from nesthall.stands import is_full, is_stand
 from nesthall.tables import flat
-from samples import above, put
+from nesthall.writing import shown
+from samples import above, check_tuples, put
+from written import CHARTS
 
 YES = ("yes",)
 # A mill with two sides that send each other letters, a keeper of each kind, and boxes that close doors.
@@ -78,12 +82,20 @@ class Whole(unittest.TestCase):
             count = len([kid for kid in own if kid in stand[0]])
             self.assertEqual(count, {"plain": 0, "one": 1, "all": len(own)}[asked[5][room][1]])
 
+    def check_answers(self, asked, desk, lamps, stand):
+        """The desk answers by these lamps, and by the rooms and the boxes of the stand."""
+        opening, held, _ = stand
+        self.assertEqual(desk.say("lamps"), " ".join(lamps))
+        self.assertEqual(desk.say("rooms"), " ".join(asked[5][room][0] for room in opening))
+        self.assertEqual([desk.say("box " + box[0]) for box in asked[3]], [str(number) for number in held])
+
     def walk(self, asked, table, events):
-        """The chart is run along the events, and the flat table and the shrunken one with it."""
+        """The chart is run along the events, and with it the flat table, the shrunken one, and a desk by its text."""
         words, rows, stands, fold, small = table
-        nest = Nest(asked)
+        nest, desk = Nest(asked), Desk(shown(asked))
         row = small_row = 0
         self.assertEqual(tuple(said(nest.first())), words)
+        self.assertEqual(desk.say("start"), " ".join(words))
         self.assertEqual(self.follow(asked[5], (), nest.first()), nest.stand()[0])
         for event in (None, *events):
             before = nest.stand()
@@ -91,6 +103,7 @@ class Whole(unittest.TestCase):
                 record = nest.run(event)
                 spoken, row = rows[row][1][event]
                 self.assertEqual(tuple(said(record)), spoken)
+                self.assertEqual(desk.say("event " + asked[4][event]), " ".join(spoken))
                 spoken, small_row = small[small_row][1][event]
                 self.assertEqual(tuple(said(record)), spoken)
                 self.assertEqual(self.follow(asked[5], before[0], record), nest.stand()[0])
@@ -99,6 +112,7 @@ class Whole(unittest.TestCase):
             self.assertEqual(small[small_row][0], nest.lamps())
             self.assertEqual(fold[row], small_row)
             self.check_stand(asked, nest.stand())
+            self.check_answers(asked, desk, small[small_row][0], stands[row])
 
     def check_partings(self, rows):
         """Each two rows of the shrunken table are parted, in it and in the flat one; how many pairs there are."""
@@ -182,6 +196,32 @@ class Whole(unittest.TestCase):
         self.assertGreater(pairs, 5000)
         self.assertGreater(never, 1000)
         self.assertGreater(lesser, 40)
+
+    def check_text(self, asked):
+        """The chart is written, read to the same chart, and written by this to the same text, to the last sign."""
+        text = shown(asked)
+        again = read(text)
+        self.assertEqual(again, asked)
+        check_tuples(self, again)
+        self.assertEqual(shown(again), text)
+        return text
+
+    def test_texts_of_charts(self):
+        texts = {}
+        for chart, rows in CHARTS:
+            self.assertEqual(self.check_text(chart), "\n".join(rows))
+        for asked in (MILL, *[drawn_chart(seed) for seed in (*range(600), *LIVELY)]):
+            for chart in (asked, renamed(asked)):
+                # Unlike charts have unlike texts.
+                self.assertEqual(texts.setdefault(self.check_text(chart), chart), chart)
+        self.assertGreater(len(texts), 1000)
+
+    def test_the_table_of_a_chart_that_is_read(self):
+        for order, letters, turns in itertools.product(("inner", "outer"), (0, 2), (1, 6)):
+            asked = (order, letters, turns) + MILL[3:]
+            table = tables_of(asked)
+            self.assertEqual(tables_of(read(shown(asked))), table)
+            self.assertEqual(Desk(shown(asked)).say("table 300"), f"{len(table[1])} {len(table[4])}")
 
     def test_each_way_of_a_refusal_leads_to_another_stand(self):
         asked = put(MILL, 3, (("grain", 10 ** 30, 1), ("load", 2, 0)))
